@@ -1,0 +1,1 @@
+"""Heaps of carts, some of which may be turned about, coupled into trains."""
