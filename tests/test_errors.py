@@ -48,6 +48,7 @@ class ErrorsTest(unittest.TestCase):
     def test_the_base_may_be_constructed_from_any_values(self):
         for told in [(), (None,), ([],), ({}, {1}), *[(thing, thing) for thing in strange_values()]]:
             self.assertIsInstance(CartError(*told), ValueError)
+            self.assertTrue(all(one is other for one, other in zip(CartError(*told).told, told, strict=True)))
 
     def test_they_are_caught_as_value_errors(self):
         for name in FIELDS:

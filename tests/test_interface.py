@@ -22,10 +22,33 @@ SIGNATURES = {
         "about": "(step)", "couple": "(step, other)",
     },
     "rows": {"is_row": "(thing)", "row_ends": "(row)", "carts_in": "(row)", "row_about": "(row)"},
+    "longtrains": {
+        "is_train": "(thing)", "train_ends": "(train)", "carts_of": "(train)", "length": "(train)",
+        "step_at": "(train, index)", "stretch": "(train, first, many)", "joined": "(one, other)",
+        "train_about": "(train)",
+    },
+    "heaps": {"Heap": "(carts)"},
+    "lots": {
+        "hang": "(heap, one, other)", "lot_of": "(heap, kind)", "links": "(heap, one, other)",
+        "is_links": "(heap, one, other, thing)", "is_cut": "(heap, thing)", "holding": "(heap)",
+    },
+    "strains": {"strain": "(heap, highs, lows)", "greatest": "(heap)", "worst": "(heap)"},
+    "turnings": {
+        "is_turning": "(heap, thing)", "balances": "(heap, turning)", "spread": "(heap, turning)",
+        "best_turning": "(heap)",
+    },
 }
 
 # What the interface lists of each class, beside its constructor.
-METHODS = {}
+METHODS = {
+    ("heaps", "Heap"): {
+        "__init__": "(self, carts)", "__len__": "(self)", "__contains__": "(self, x)", "__getitem__": "(self, at)",
+        "__eq__": "(self, other)", "__add__": "(self, other)", "__sub__": "(self, other)", "__mul__": "(self, other)",
+        "__rmul__": "(self, other)", "__iter__": "(self)", "carts": "(self)", "count": "(self)",
+        "hooks": "(self, kind)", "kinds": "(self)", "odd": "(self)", "lots": "(self)", "is_within": "(self, other)",
+        "put": "(self, cart, many=1)", "out": "(self, cart, many=1)", "renamed": "(self, names)", "about": "(self)",
+    },
+}
 
 
 def defined_in(body):

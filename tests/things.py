@@ -1,5 +1,12 @@
 """Values that several tests use."""
 
+import random
+
+from hookcarts.carts import cart_of
+from hookcarts.heaps import Heap
+
+GREAT = 10 ** 30
+
 
 def nested(depth):
     """Return a list in a list, and so on."""
@@ -26,3 +33,34 @@ def strange_values():
         [(1, [])], [(0, [(("a", "b", False), False)])], [(True, [(("a", "b", False), False)])],
         nested(20), [0] * 4000, (None,) * 4000, {str(n): n for n in range(1000)}, strange_values, ValueError,
     ]
+
+
+def some_heaps(many, kinds, most_carts, numbers):
+    """Return so many different Heaps, the same in each run: carts of these kinds, as often as one of the numbers."""
+    source = random.Random(f"{many} {kinds} {most_carts}")
+    heaps = []
+    for _ in range(many):
+        carts = {}
+        for _ in range(source.randrange(most_carts + 1)):
+            cart = cart_of(source.choice(kinds), source.choice(kinds), turns=source.random() < 0.5)
+            carts[cart] = source.choice(numbers)
+        heaps.append(Heap(carts))
+    return heaps
+
+
+def all_turnings(heap):
+    """Return all turnings of a Heap of few carts."""
+    turnings = [{}]
+    for cart in heap:
+        if cart[2] and cart[0] != cart[1]:
+            turnings = [{**turning, cart: number} for turning in turnings for number in range(heap[cart] + 1)]
+    return turnings
+
+
+def all_sides(kinds):
+    """Return all highs and lows among these kinds, tuples of two lists."""
+    sides = [([], [])]
+    for kind in kinds:
+        sides = [side for highs, lows in sides
+                 for side in ((highs, lows), ([*highs, kind], lows), (highs, [*lows, kind]))]
+    return sides
