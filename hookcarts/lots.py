@@ -104,16 +104,16 @@ def _ways_back(beside, start):
     it leads; (0, None, None) for start.
     """
     ways = {start: (0, None, None)}
-    layer = [start]
-    while layer:
-        further = []
-        for kind in layer:
-            for cart in beside[kind]:
-                reached = _across(cart, kind)
-                if reached not in ways:
-                    ways[reached] = (_far(ways, kind) + 1, cart, kind)
-                    further.append(reached)
-        layer = further
+    queue = [start]
+    done = 0
+    while done < len(queue):
+        kind = queue[done]
+        for cart in beside[kind]:
+            reached = _across(cart, kind)
+            if reached not in ways:
+                ways[reached] = (_far(ways, kind) + 1, cart, kind)
+                queue.append(reached)
+        done = done + 1
     return ways
 
 

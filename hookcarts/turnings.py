@@ -65,17 +65,17 @@ def _path(balance, leading, least, most):
     The list is empty if there is none.
     """
     ahead = {kind: None for kind in balance if balance[kind] >= least}
-    layer = list(ahead)
-    while layer:
-        further = []
-        for kind in layer:
-            if balance[kind] <= most:
-                return _path_to(ahead, kind)
-            reached = [last for last in balance if last not in ahead and leading.get((kind, last), 0) > 0]
-            for last in reached:
-                ahead[last] = kind
-            further.extend(reached)
-        layer = further
+    queue = list(ahead)
+    done = 0
+    while done < len(queue):
+        kind = queue[done]
+        if balance[kind] <= most:
+            return _path_to(ahead, kind)
+        reached = [last for last in balance if last not in ahead and leading.get((kind, last), 0) > 0]
+        for last in reached:
+            ahead[last] = kind
+        queue.extend(reached)
+        done = done + 1
     return []
 
 

@@ -27,6 +27,8 @@ WORDS = """typing typing_extensions enum Enum IntEnum StrEnum Flag IntFlag Gener
 NamedTuple TypedDict TYPE_CHECKING abstractmethod""".split()
 BARRED = (ast.AsyncFunctionDef, ast.Global, ast.Await, ast.AsyncFor, ast.AsyncWith, ast.GeneratorExp)
 FUNCTIONS = (ast.FunctionDef, ast.AsyncFunctionDef)
+LOOPS = (ast.For, ast.ListComp, ast.DictComp, ast.SetComp)
+CHANGING = "append clear extend insert pop remove reverse setdefault update sort add discard".split()
 
 
 def folder_complaints(folder):
@@ -213,4 +215,79 @@ def set_complaints(tree):
             place = above.func.id if isinstance(above, ast.Call) and isinstance(above.func, ast.Name) else ""
             if place not in ("sorted", "len") and not isinstance(above, (ast.Compare, ast.Assign)):
                 found.append(f"L24 line {part.lineno}")
+    return found
+
+
+def walk_complaints(tree):
+    """L5, L23: what a loop walks is not changed in it, by its name or by a name that it was given elsewhere."""
+    found = []
+    for function in ast.walk(tree):
+        if isinstance(function, FUNCTIONS):
+            names = names_given(function)
+            for loop in ast.walk(function):
+                if isinstance(loop, LOOPS):
+                    walked = {names.get(base, base) for base in bases_walked(loop)}
+                    changed = {names.get(base, base) for base in bases_changed(loop)}
+                    if walked & changed:
+                        found.append(f"L23 line {loop.lineno}")
+    return found
+
+
+def names_given(function):
+    """Return a dict from the names that are given to each other in a function to one of them."""
+    names = {}
+    for part in ast.walk(function):
+        if isinstance(part, ast.Assign):
+            for target in part.targets:
+                for one, other in pairs_assigned(target, part.value):
+                    for base in bases_of(other):
+                        old, new = names.get(base, base), names.get(one, one)
+                        names.update({name: new for name in [*names, base, one] if names.get(name, name) in (old, new)})
+    return names
+
+
+def pairs_assigned(target, value):
+    """Return the list of the tuples of a name and the value that is assigned to it."""
+    if isinstance(target, (ast.Tuple, ast.List)) and isinstance(value, (ast.Tuple, ast.List)):
+        pairs = zip(target.elts, value.elts)
+        return [pair for one, other in pairs for pair in pairs_assigned(one, other)]
+    # What is put into a list or a dict is no other name of it.
+    return [(ast.unparse(target), value)] if isinstance(target, (ast.Name, ast.Attribute)) else []
+
+
+def bases_of(part):
+    """Return the list of the names and attributes of which a value, its items left out, may be one."""
+    if isinstance(part, (ast.Name, ast.Attribute)):
+        return [ast.unparse(part)]
+    if isinstance(part, (ast.Subscript, ast.Starred)):
+        return bases_of(part.value)
+    if isinstance(part, ast.IfExp):
+        return [*bases_of(part.body), *bases_of(part.orelse)]
+    if isinstance(part, ast.BoolOp):
+        return [base for one in part.values for base in bases_of(one)]
+    if isinstance(part, ast.Call) and isinstance(part.func, ast.Attribute):
+        if part.func.attr in ("items", "keys", "values", "setdefault", "get"):
+            return bases_of(part.func.value)
+    if isinstance(part, ast.Call) and isinstance(part.func, ast.Name):
+        if part.func.id in ("enumerate", "zip", "reversed", "iter"):
+            return [base for one in part.args for base in bases_of(one)]
+    return []
+
+
+def bases_walked(loop):
+    """Return the list of the names and attributes that a loop or a comprehension walks."""
+    walks = [loop.iter] if isinstance(loop, ast.For) else [part.iter for part in loop.generators]
+    return [base for walk in walks for base in bases_of(walk)]
+
+
+def bases_changed(loop):
+    """Return the list of the names and attributes that are changed in a loop or a comprehension."""
+    found = []
+    for part in ast.walk(loop):
+        if isinstance(part, ast.Call) and isinstance(part.func, ast.Attribute) and part.func.attr in CHANGING:
+            found.extend(bases_of(part.func.value))
+        if isinstance(part, ast.Subscript) and not isinstance(part.ctx, ast.Load):
+            found.extend(bases_of(part.value))
+        if isinstance(part, ast.AugAssign):
+            found.extend(bases_of(part.target))
     return found

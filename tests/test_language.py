@@ -65,6 +65,9 @@ class PackageTest(unittest.TestCase):
     def test_sets(self):
         self.assert_none(language.set_complaints)
 
+    def test_walks(self):
+        self.assert_none(language.walk_complaints)
+
     def test_python_gives_no_warning(self):
         with warnings.catch_warnings():
             warnings.simplefilter("error")
@@ -128,3 +131,17 @@ class ChecksTest(unittest.TestCase):
             self.assertNotEqual(language.set_complaints(ast.parse(text)), [], text)
         for text in ["x = sorted(set(y) & set(z))", "x = len({y for y in z})", "x = y in {1, 2}", "x = set()"]:
             self.assertEqual(language.set_complaints(ast.parse(text)), [], text)
+
+    def test_walks(self):
+        for text in ["for x in y:\n  y.append(x)", "for x in list(z):\n  pass\nfor x in enumerate(y):\n  del y[0]",
+                     "for x in y[1]:\n  y[2] = 0", "for x in y.rows:\n  y.rows.extend([1])",
+                     "for x in y or z:\n  z.pop()", "for x, z in y.items():\n  y.setdefault(x, []).append(z)",
+                     "while y:\n  z = []\n  for x in y:\n    z.append(x)\n  y = z",
+                     "while y:\n  z = []\n  for x in y:\n    z.extend(x)\n  y, k = z, 1",
+                     "z = k = y\nfor x in z:\n  k.insert(0, x)", "z = [y.pop() for x in y if x]"]:
+            told = "def f():\n" + "".join(f"  {line}\n" for line in text.split("\n"))
+            self.assertNotEqual(language.walk_complaints(ast.parse(told)), [], text)
+        for text in ["for x in list(y):\n  y.append(x)", "for x in y:\n  z.append(x)", "for x in y:\n  z[x] = y[x]",
+                     "while y:\n  x = y.pop()\n  y.append(x)", "for x in y[1]:\n  z[y[0]] = 1", "y = [y[0] for x in y]"]:
+            told = "def f():\n" + "".join(f"  {line}\n" for line in text.split("\n"))
+            self.assertEqual(language.walk_complaints(ast.parse(told)), [], text)
