@@ -37,6 +37,17 @@ SIGNATURES = {
         "is_turning": "(heap, thing)", "balances": "(heap, turning)", "spread": "(heap, turning)",
         "best_turning": "(heap)",
     },
+    "fewest": {"fewest": "(heap)", "shown": "(heap, highs, lows)"},
+    "alikes": {"alike": "(one, other)", "telling": "(one, other)"},
+    "splits": {
+        "is_split": "(heap, thing)", "heap_in": "(split)", "how_many": "(split)", "split_ends": "(split)",
+        "turned_in": "(split)",
+    },
+    "rounds": {"rounds": "(heap, turning)", "is_round": "(thing)", "is_rounds": "(heap, turning, thing)"},
+    "trains": {
+        "trains": "(heap)", "trains_by": "(heap, turning)", "one_train": "(heap)", "ring": "(heap)",
+        "led": "(heap, first, last)",
+    },
 }
 
 # What the interface lists of each class, beside its constructor.

@@ -1,8 +1,9 @@
 """Values that several tests use."""
 
+import functools
 import random
 
-from hookcarts.carts import cart_of
+from hookcarts.carts import begin_of, cart_of, end_of, steps_of
 from hookcarts.heaps import Heap
 
 GREAT = 10 ** 30
@@ -64,3 +65,57 @@ def all_sides(kinds):
         sides = [side for highs, lows in sides
                  for side in ((highs, lows), ([*highs, kind], lows), (highs, [*lows, kind]))]
     return sides
+
+
+def plain_fewest(heap):
+    """Return the fewest of a Heap of few carts, found by coupling cart by cart."""
+    carts = list(heap)
+
+    @functools.lru_cache(maxsize=None)
+    def more_trains(left, at):
+        if not any(left):
+            return 0
+        numbers = []
+        for index, cart in enumerate(carts):
+            if left[index]:
+                rest = (*left[:index], left[index] - 1, *left[index + 1:])
+                numbers.extend((begin_of(step) != at) + more_trains(rest, end_of(step)) for step in steps_of(cart))
+        return min(numbers)
+
+    return more_trains(tuple(heap[cart] for cart in carts), None)
+
+
+def whole_rows(heap):
+    """Return all rows of all carts of a Heap of few carts, found by coupling cart by cart."""
+    found = []
+    waiting = [([], heap.carts())]
+    while waiting:
+        row, left = waiting.pop()
+        if row and not left:
+            found.append(row)
+        for cart in left:
+            rest = {one: many - (one == cart) for one, many in left.items() if many > (one == cart)}
+            waiting.extend(([*row, step], rest) for step in steps_of(cart)
+                           if not row or end_of(row[-1]) == begin_of(step))
+    return found
+
+
+def long_row(train):
+    """Return the long row of a train of few steps."""
+    return [step for many, row in train for _ in range(many) for step in row]
+
+
+def lists_in(thing):
+    """Return all lists and dicts in a value, itself included."""
+    if isinstance(thing, dict):
+        return [thing, *(inner for one in [*thing, *thing.values()] for inner in lists_in(one))]
+    if isinstance(thing, (list, tuple)):
+        own = [thing] if isinstance(thing, list) else []
+        return own + [inner for one in thing for inner in lists_in(one)]
+    return []
+
+
+def has_twice(thing):
+    """Return whether a list or dict stands twice in a value."""
+    places = [id(inner) for inner in lists_in(thing)]
+    return len(set(places)) < len(places)
