@@ -25,6 +25,8 @@ compile copyright credits delattr dir eval exec exit gc getattr globals hasattr 
 methodcaller os quit setattr type vars sys format format_map""".split()
 WORDS = """typing typing_extensions enum Enum IntEnum StrEnum Flag IntFlag Generic Protocol ABC ABCMeta namedtuple
 NamedTuple TypedDict TYPE_CHECKING abstractmethod""".split()
+# A shell and doctest put "_" among the builtins.
+ALL_BUILTINS = [name for name in dir(builtins) if name != "_"]
 BARRED = (ast.AsyncFunctionDef, ast.Global, ast.Await, ast.AsyncFor, ast.AsyncWith, ast.GeneratorExp)
 FUNCTIONS = (ast.FunctionDef, ast.AsyncFunctionDef)
 LOOPS = (ast.For, ast.ListComp, ast.DictComp, ast.SetComp)
@@ -170,11 +172,11 @@ def name_complaints(tree):
     """L8, L12, L15, L17: names that are bound, and builtins that are used."""
     found = []
     for name, line in bound_names(tree):
-        if hasattr(builtins, name) or name in UNUSED or name in WORDS or not re.fullmatch(r"_|_?[A-Za-z]\w*", name):
+        if name in ALL_BUILTINS or name in UNUSED or name in WORDS or not re.fullmatch(r"_|_?[A-Za-z]\w*", name):
             found.append(f"L15 or L17 {name} in line {line}")
     for part in ast.walk(tree):
         if isinstance(part, ast.Name) and isinstance(part.ctx, ast.Load):
-            if hasattr(builtins, part.id) and part.id not in BUILTINS:
+            if part.id in ALL_BUILTINS and part.id not in BUILTINS:
                 found.append(f"L8 {part.id} in line {part.lineno}")
             if part.id == "_":
                 found.append(f"L12 _ in line {part.lineno}")

@@ -48,6 +48,16 @@ SIGNATURES = {
         "trains": "(heap)", "trains_by": "(heap, turning)", "one_train": "(heap)", "ring": "(heap)",
         "led": "(heap, first, last)",
     },
+    "ends": {
+        "ends": "(heap)", "least_ends": "(heap, kind)", "always_ends": "(heap)", "most_begins": "(heap, kind)",
+        "most_ends": "(heap, kind)",
+    },
+    "neighbours": {
+        "held": "(heap, row)", "fewest_with": "(heap, row)", "can_stand": "(heap, row)", "standing": "(heap, row)",
+        "begun": "(heap, row)", "goes_on": "(heap, row)", "couples": "(heap)", "first_place": "(train, row)",
+    },
+    "known": {"Known": "(ranges)"},
+    "mosts": {"most_fewest": "(known)", "most_heap": "(known)"},
 }
 
 # What the interface lists of each class, beside its constructor.
@@ -58,6 +68,12 @@ METHODS = {
         "__rmul__": "(self, other)", "__iter__": "(self)", "carts": "(self)", "count": "(self)",
         "hooks": "(self, kind)", "kinds": "(self)", "odd": "(self)", "lots": "(self)", "is_within": "(self, other)",
         "put": "(self, cart, many=1)", "out": "(self, cart, many=1)", "renamed": "(self, names)", "about": "(self)",
+    },
+    ("known", "Known"): {
+        "__init__": "(self, ranges)", "__len__": "(self)", "__contains__": "(self, x)", "__getitem__": "(self, at)",
+        "__eq__": "(self, other)", "__and__": "(self, other)", "__iter__": "(self)", "fits": "(self, heap)",
+        "narrowed": "(self, cart, least, most)", "leasts": "(self)", "mosts": "(self)", "how_many": "(self)",
+        "kinds": "(self)",
     },
 }
 

@@ -5,6 +5,7 @@ import random
 
 from hookcarts.carts import begin_of, cart_of, end_of, steps_of
 from hookcarts.heaps import Heap
+from hookcarts.known import Known
 
 GREAT = 10 ** 30
 
@@ -49,6 +50,31 @@ def some_heaps(many, kinds, most_carts, numbers):
     return heaps
 
 
+def some_knowns(many, kinds, most_carts, width):
+    """Return so many Knowns, the same in each run: carts of these kinds, at most four with a range of more numbers."""
+    source = random.Random(f"{many} {kinds} {most_carts} {width}")
+    knowns = []
+    while len(knowns) < many:
+        ranges = {}
+        for _ in range(1 + source.randrange(most_carts)):
+            cart = cart_of(source.choice(kinds), source.choice(kinds), turns=source.random() < 0.4)
+            least = source.choice([0, 0, 1, 2])
+            ranges[cart] = (least, max(1, least + source.randrange(width + 1)))
+        wide = [cart for cart in ranges if ranges[cart][0] < ranges[cart][1]]
+        if len(wide) <= 4 and any(least > 0 for least, _ in ranges.values()):
+            knowns.append(Known(ranges))
+    return knowns
+
+
+def all_heaps(known):
+    """Return all Heaps that fit a Known, of few numbers, in the order of their numbers."""
+    found = [{}]
+    for cart in known:
+        least, most = known[cart]
+        found = [{**numbers, cart: number} for numbers in found for number in range(least, most + 1)]
+    return [Heap({cart: number for cart, number in numbers.items() if number}) for numbers in found]
+
+
 def all_turnings(heap):
     """Return all turnings of a Heap of few carts."""
     turnings = [{}]
@@ -67,22 +93,32 @@ def all_sides(kinds):
     return sides
 
 
-def plain_fewest(heap):
-    """Return the fewest of a Heap of few carts, found by coupling cart by cart."""
+def plain_cheapest(heap, begin_cost, end_cost):
+    """Return the least cost of all splits of a Heap of few carts, found by coupling cart by cart.
+
+    A train costs what begin_cost tells of the kind at which it begins, and end_cost of the one at which it ends.
+    """
     carts = list(heap)
 
     @functools.lru_cache(maxsize=None)
-    def more_trains(left, at):
-        if not any(left):
-            return 0
-        numbers = []
+    def cheapest(left, at):
+        costs = [0 if at is None else end_cost(at)] if not any(left) else []
         for index, cart in enumerate(carts):
             if left[index]:
                 rest = (*left[:index], left[index] - 1, *left[index + 1:])
-                numbers.extend((begin_of(step) != at) + more_trains(rest, end_of(step)) for step in steps_of(cart))
-        return min(numbers)
+                for step in steps_of(cart):
+                    cost = begin_cost(begin_of(step)) + (0 if at is None else end_cost(at))
+                    costs.append(cheapest(rest, end_of(step)) + cost)
+                    if begin_of(step) == at:
+                        costs.append(cheapest(rest, end_of(step)))
+        return min(costs)
 
-    return more_trains(tuple(heap[cart] for cart in carts), None)
+    return cheapest(tuple(heap[cart] for cart in carts), None)
+
+
+def plain_fewest(heap):
+    """Return the fewest of a Heap of few carts, found by coupling cart by cart."""
+    return plain_cheapest(heap, lambda kind: 1, lambda kind: 0)
 
 
 def whole_rows(heap):
@@ -98,6 +134,11 @@ def whole_rows(heap):
             waiting.extend(([*row, step], rest) for step in steps_of(cart)
                            if not row or end_of(row[-1]) == begin_of(step))
     return found
+
+
+def stands_in(row, longer):
+    """Return whether a row stands in a longer one."""
+    return any(longer[at:at + len(row)] == row for at in range(len(longer)))
 
 
 def long_row(train):
