@@ -21,9 +21,9 @@ def most_heap(known):
 def _numbers_to_try(cart, limits):
     """Return the ascending list of some numbers in a range, such that no other one makes a fewest greater.
 
-    Once it is decided which carts there are, so are the lots. Each strain grows or falls evenly with a number, but for
-    its being odd or even: two numbers at each end are enough. Carts that turn make no strain greater; for those of one
-    kind it only counts whether there are any.
+    Once it is decided which carts there are, so are the lots. If the two kinds of a cart differ in worth, one cart more
+    changes the strain by as much as the odd kinds can make up for, so that the ends of the range are enough (the lower
+    one for carts that turn); if they don't, it only counts whether the number is odd.
     """
     front, back, turns = cart
     least, most = limits
@@ -32,5 +32,5 @@ def _numbers_to_try(cart, limits):
     if front != back:
         numbers.append(first + 1)
         if not turns:
-            numbers.extend([most - 1, most])
+            numbers.append(most)
     return sorted({number for number in numbers if least <= number <= most})

@@ -270,6 +270,11 @@ class NeighboursTest(unittest.TestCase):
                 result.clear()
             self.assertEqual(row, before)
             self.assertEqual(function(heap, row), told)
+        # A row of all carts is told in a new list, too.
+        for function in [standing, begun]:
+            [(_, told)] = function(Heap(carts_in(row)), row)
+            self.assertEqual(told, row)
+            self.assertIsNot(told, row)
         train = [(GREAT, [(AB, False), (BA, False)])]
         first_place(train, [(BA, False)])
         self.assertEqual(train, [(GREAT, [(AB, False), (BA, False)])])
