@@ -84,12 +84,12 @@ def _without(heap, row):
 
 
 def _with_row(train, step, row):
-    """Return the train with a row in the place of a step that stands in it."""
+    """Return the train with a row, as a part of its own, in the place of a step that stands in it."""
     index = [step in steps for _, steps in train].index(True)
     many, steps = train[index]
     place = steps.index(step)
-    parts = [(1, [*steps[:place], *row, *steps[place + 1:]]), (many - 1, steps), *train[index + 1:]]
-    return [*train[:index], *[part for part in parts if part[0] > 0]]
+    parts = [(1, steps[:place]), (1, list(row)), (1, steps[place + 1:]), (many - 1, steps)]
+    return [*train[:index], *[part for part in parts if part[0] > 0 and len(part[1]) > 0], *train[index + 1:]]
 
 
 def _can_go_on(rest, kind):

@@ -110,7 +110,7 @@ class NeighboursTest(unittest.TestCase):
         self.assertGreater(len(LARGE), 10)
         stood, started, missed = 0, 0, 0
         for heap in LARGE:
-            for row in short_rows(heap, 2)[::2] + [stretch(one_train(heap), 0, min(50, length(one_train(heap))))]:
+            for row in short_rows(heap, 2)[::2] + [stretch(one_train(heap), 0, min(60, length(one_train(heap))))]:
                 train = standing(heap, row)
                 self.assertEqual(train is not None, can_stand(heap, row))
                 if train is None:
@@ -119,6 +119,7 @@ class NeighboursTest(unittest.TestCase):
                     stood += 1
                     self.assert_train(heap, train)
                     self.assertLessEqual(len(train), 100)
+                    self.assertLessEqual(max(len(steps) for _, steps in train), 60)
                     self.assertIsNotNone(first_place(train, row))
                 train = begun(heap, row)
                 if train is not None:
