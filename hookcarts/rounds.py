@@ -30,7 +30,7 @@ def is_rounds(heap, turning, thing):
     for times, row in thing:
         for step in row:
             found[step] = found.get(step, 0) + times
-    return found == _step_numbers(heap, turning)
+    return found == step_numbers(heap, turning)
 
 
 def rows_through(heap, turning):
@@ -39,7 +39,7 @@ def rows_through(heap, turning):
     Each row is a round, or passes no kind twice and leads from a kind with a balance above 0 to one with a balance
     below 0; there are only so many of these as the balances ask for.
     """
-    left = _step_numbers(heap, turning)
+    left = step_numbers(heap, turning)
     balance = balances(heap, turning)
     found = []
     while left:
@@ -66,7 +66,7 @@ def _is_times_and_round(thing):
     return is_number(1, times) and is_round(row)
 
 
-def _step_numbers(heap, turning):
+def step_numbers(heap, turning):
     """Return the dict from the steps in which carts of a heap stand to the numbers of these carts."""
     found = {}
     for cart in heap:

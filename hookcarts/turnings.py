@@ -39,7 +39,7 @@ def best_turning(heap):
     """Return a turning of the least spread."""
     carts = turnable(heap)
     balance = balances(heap, {})
-    leading = _none_turned(heap, carts)
+    leading = leading_numbers(heap, {})
     # The first round leaves no way from a balance above 0 to one of at most -2. The second one opens none again: it
     # only brings what is left from 2 on to kinds with -1, each of which it changes once.
     for least, most in [(1, -2), (2, -1)]:
@@ -50,12 +50,13 @@ def best_turning(heap):
     return {cart: leading[(cart[1], cart[0])] for cart in carts}
 
 
-def _none_turned(heap, carts):
-    """Return the dict from tuples (first, last) of kinds to how many of the carts lead from the one to the other."""
+def leading_numbers(heap, turning):
+    """Return the dict from tuples (first, last) of kinds to how many carts that turn lead from the one to the other."""
     leading = {}
-    for cart in carts:
-        leading[(cart[0], cart[1])] = heap[cart]
-        leading[(cart[1], cart[0])] = 0
+    for cart in turnable(heap):
+        turned = turning.get(cart, 0)
+        leading[(cart[0], cart[1])] = heap[cart] - turned
+        leading[(cart[1], cart[0])] = turned
     return leading
 
 

@@ -5,18 +5,13 @@ from hookcarts.fewest import fewest
 from hookcarts.heaps import Heap
 from hookcarts.known import Known
 from hookcarts.mosts import most_fewest, most_heap
-from tests.things import GREAT, all_heaps, some_knowns
+from tests.things import GREAT, all_heaps, known_renamed, some_knowns
 
 AB, BA, TURN = cart_of("a", "b"), cart_of("b", "a"), cart_of("a", "b", turns=True)
 BC, CC, DD = cart_of("b", "c", turns=True), cart_of("c", "c", turns=True), cart_of("d", "d")
 SMALL = [*some_knowns(150, ["a", "b", "c", "d"], 5, 3), *some_knowns(60, ["a", "b"], 5, 3),
          *some_knowns(100, ["a", "b", "c"], 3, 6)]
 NAMES = {"a": "d", "b": "a", "c": "zz", "d": "b"}
-
-
-def renamed(known, names):
-    """Return the Known with the kinds that names tells."""
-    return Known({next(iter(Heap({cart: 1}).renamed(names))): known[cart] for cart in known})
 
 
 class MostsTest(unittest.TestCase):
@@ -88,7 +83,7 @@ class MostsTest(unittest.TestCase):
 
     def test_kinds_exchanged(self):
         for known in SMALL[:80]:
-            self.assertEqual(most_fewest(renamed(known, NAMES)), most_fewest(known))
+            self.assertEqual(most_fewest(known_renamed(known, NAMES)), most_fewest(known))
 
     def test_front_and_back_exchanged(self):
         for known in SMALL[:80]:

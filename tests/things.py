@@ -66,6 +66,25 @@ def some_knowns(many, kinds, most_carts, width):
     return knowns
 
 
+def some_shops(many, kinds, prices):
+    """Return so many shops, the same in each run: adapters of these kinds, each with one of the prices."""
+    source = random.Random(f"{many} {kinds} {prices}")
+    shops = []
+    for _ in range(many):
+        shop = {}
+        for _ in range(source.randrange(4)):
+            cart = cart_of(source.choice(kinds), source.choice(kinds), turns=source.random() < 0.4)
+            shop[cart] = source.choice(prices)
+        shops.append(list(shop.items()))
+    return shops
+
+
+def all_carts(kinds):
+    """Return the ascending list of all carts of kinds."""
+    pairs = [(one, other) for one in kinds for other in kinds]
+    return sorted({cart_of(one, other, turns=turns) for one, other in pairs for turns in (False, True)})
+
+
 def all_heaps(known):
     """Return all Heaps that fit a Known, of few numbers, in the order of their numbers."""
     found = [{}]
@@ -73,6 +92,11 @@ def all_heaps(known):
         least, most = known[cart]
         found = [{**numbers, cart: number} for numbers in found for number in range(least, most + 1)]
     return [Heap({cart: number for cart, number in numbers.items() if number}) for numbers in found]
+
+
+def known_renamed(known, names):
+    """Return the Known with the kinds that names tells."""
+    return Known({next(iter(Heap({cart: 1}).renamed(names))): known[cart] for cart in known})
 
 
 def all_turnings(heap):
@@ -134,6 +158,22 @@ def whole_rows(heap):
             waiting.extend(([*row, step], rest) for step in steps_of(cart)
                            if not row or end_of(row[-1]) == begin_of(step))
     return found
+
+
+def plain_ways(heap):
+    """Return the number of whole rows of a Heap, found by coupling cart by cart and counting what is left once."""
+    carts = list(heap)
+
+    @functools.lru_cache(maxsize=None)
+    def number(left, at):
+        total = 0 if any(left) else 1
+        for index, cart in enumerate(carts):
+            if left[index]:
+                rest = (*left[:index], left[index] - 1, *left[index + 1:])
+                total += sum(number(rest, end_of(step)) for step in steps_of(cart) if at in (None, begin_of(step)))
+        return total
+
+    return number(tuple(heap.carts().values()), None) if carts else 0
 
 
 def stands_in(row, longer):
