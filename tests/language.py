@@ -25,6 +25,8 @@ compile copyright credits delattr dir eval exec exit gc getattr globals hasattr 
 methodcaller os quit setattr type vars sys format format_map""".split()
 WORDS = """typing typing_extensions enum Enum IntEnum StrEnum Flag IntFlag Generic Protocol ABC ABCMeta namedtuple
 NamedTuple TypedDict TYPE_CHECKING abstractmethod""".split()
+PREFIXES = ("(_wall|_pe_|_dcw_|_enum_|_cm_|_twin_re_|_lay_|_law_|_stub_|_sre|_WallAttr)"
+            "|(_cold|_tuplegetter|_outside|_record|_written_out|_member_names)[0-9_]*$")
 # A shell and doctest put "_" among the builtins.
 ALL_BUILTINS = [name for name in dir(builtins) if name != "_"]
 BARRED = (ast.AsyncFunctionDef, ast.Global, ast.Await, ast.AsyncFor, ast.AsyncWith, ast.GeneratorExp)
@@ -181,6 +183,70 @@ def name_complaints(tree):
             if part.id == "_":
                 found.append(f"L12 _ in line {part.lineno}")
     return found
+
+
+def shadow_complaints(tree):
+    """L15: no parameter, variable or nested function has the name of a class or an import of its file."""
+    taken = {alias.name for part in tree.body if isinstance(part, ast.ImportFrom) for alias in part.names}
+    taken |= {part.name for part in tree.body if isinstance(part, ast.ClassDef)}
+    found = []
+    for function in ast.walk(tree):
+        if isinstance(function, (*FUNCTIONS, ast.Lambda)):
+            for part in ast.walk(function):
+                named = isinstance(part, ast.Name) and not isinstance(part.ctx, ast.Load) and part.id in taken
+                nested = isinstance(part, FUNCTIONS) and part is not function and part.name in taken
+                if named or nested or isinstance(part, ast.arg) and part.arg in taken:
+                    found.append(f"L15 line {part.lineno}")
+    return found
+
+
+def prefix_complaints(tree):
+    """L12: what names must not begin with."""
+    return [f"L12 {name} in line {line}" for name, line in bound_names(tree) if re.match(PREFIXES, name)]
+
+
+def lambda_complaints(tree):
+    """L13: two lambdas with the same parameters do not stand on one line."""
+    told = [(part.lineno, ast.unparse(part.args)) for part in ast.walk(tree) if isinstance(part, ast.Lambda)]
+    return [f"L13 line {line}" for line, parameters in set(told) if told.count((line, parameters)) > 1]
+
+
+def star_complaints(tree):
+    """L7: behind a star in a call stand only names, attributes, literals, and lists, tuples and dicts of these."""
+    plain = (ast.Name, ast.Attribute, ast.Constant, ast.List, ast.Tuple, ast.Dict, ast.Starred, ast.Load)
+    found = []
+    for part in ast.walk(tree):
+        if isinstance(part, ast.Call):
+            starred = [one for one in part.args if isinstance(one, ast.Starred)]
+            starred += [one.value for one in part.keywords if one.arg is None]
+            if not all(isinstance(inner, plain) for one in starred for inner in ast.walk(one)):
+                found.append(f"L7 line {part.lineno}")
+    return found
+
+
+def generator_complaints(tree, generators):
+    """L23: what a generator gives is iterated on the spot, and a yield is a statement of its own."""
+    parents = {inner: part for part in ast.walk(tree) for inner in ast.iter_child_nodes(part)}
+    places = "list tuple dict sorted sum min max any all enumerate zip".split()
+    found = []
+    for part in ast.walk(tree):
+        if isinstance(part, (ast.Yield, ast.YieldFrom)) and not isinstance(parents[part], ast.Expr):
+            found.append(f"L23 line {part.lineno}")
+        if isinstance(part, ast.Name) and isinstance(part.ctx, ast.Load) and part.id in generators:
+            call = parents[part]
+            above = parents[call]
+            walked = isinstance(above, (ast.For, ast.comprehension)) and above.iter is call
+            given = isinstance(above, ast.Call) and isinstance(above.func, ast.Name) and above.func.id in places
+            if not isinstance(call, ast.Call) or call.func is not part or not (walked or given):
+                found.append(f"L23 {part.id} in line {part.lineno}")
+    return found
+
+
+def generator_names(trees):
+    """Return the names of the functions of the package that yield."""
+    functions = [part for tree in trees for part in ast.walk(tree) if isinstance(part, FUNCTIONS)]
+    yields = (ast.Yield, ast.YieldFrom)
+    return {part.name for part in functions if any(isinstance(inner, yields) for inner in ast.walk(part))}
 
 
 def own_names(trees):

@@ -58,6 +58,37 @@ SIGNATURES = {
     },
     "known": {"Known": "(ranges)"},
     "mosts": {"most_fewest": "(known)", "most_heap": "(known)"},
+    "leasts": {"least_fewest": "(known)", "least_heap": "(known)"},
+    "sures": {
+        "heap_with": "(known, number)", "can_be_one": "(known)", "surely_one": "(known)", "surely_odd": "(known)",
+        "never_odd": "(known)", "possible_ends": "(known)",
+    },
+    "shops": {
+        "is_shop": "(thing)", "is_purchase": "(shop, thing)", "price_of": "(shop, purchase)", "links_missing": "(heap)",
+        "way_of": "(shop, purchase)", "least_of": "(shop, way)", "open_ways": "(heap, shop)",
+        "shown_price": "(heap, shop, way, ends, worths)", "linking": "(heap)",
+    },
+    "buying": {
+        "cheapest": "(heap, shop)", "cheapest_by": "(heap, shop, way, ends)", "bill": "(heap, shop, price)",
+        "is_bill": "(heap, shop, price, thing)",
+    },
+    "ways": {
+        "ways": "(heap)", "ways_led": "(heap, first, last)", "ways_by": "(heap, turning)",
+        "ways_beginning": "(heap, row)", "begins": "(heap)", "turnings_told": "(heap)",
+    },
+    "indexes": {
+        "nth": "(heap, index)", "place_of": "(heap, thing)", "next_row": "(heap, row)", "rows_of": "(heap)",
+    },
+    "yard": {"is_deed": "(thing)", "Yard": "(heap)"},
+    "notation": {
+        "cart_text": "(cart)", "step_text": "(step)", "row_text": "(row)", "train_text": "(train)",
+        "heap_text": "(heap)", "deed_text": "(deed)",
+    },
+    "readers": {
+        "read_cart": "(text)", "read_step": "(text)", "read_row": "(text)", "read_train": "(text)",
+        "read_heap": "(text)", "read_deed": "(text)",
+    },
+    "desk": {"Desk": "(heap)"},
 }
 
 # What the interface lists of each class, beside its constructor.
@@ -75,6 +106,12 @@ METHODS = {
         "narrowed": "(self, cart, least, most)", "leasts": "(self)", "mosts": "(self)", "how_many": "(self)",
         "kinds": "(self)",
     },
+    ("yard", "Yard"): {
+        "__init__": "(self, heap)", "do": "(self, deed)", "do_all": "(self, deeds)", "back": "(self)",
+        "again": "(self)", "log": "(self)", "trains": "(self)", "advice": "(self)", "copied": "(self)",
+        "free": "(self)", "standing": "(self)", "pieces": "(self)", "fewest": "(self)",
+    },
+    ("desk", "Desk"): {"__init__": "(self, heap)", "execute": "(self, line)"},
 }
 
 

@@ -68,6 +68,23 @@ class PackageTest(unittest.TestCase):
     def test_walks(self):
         self.assert_none(language.walk_complaints)
 
+    def test_shadows(self):
+        self.assert_none(language.shadow_complaints)
+
+    def test_prefixes(self):
+        self.assert_none(language.prefix_complaints)
+
+    def test_lambdas(self):
+        self.assert_none(language.lambda_complaints)
+
+    def test_stars(self):
+        self.assert_none(language.star_complaints)
+
+    def test_generators(self):
+        names = language.generator_names(list(self.trees.values()))
+        self.assertEqual(names, {"rows_of"})
+        self.assert_none(language.generator_complaints, names)
+
     def test_python_gives_no_warning(self):
         with warnings.catch_warnings():
             warnings.simplefilter("error")
@@ -145,3 +162,38 @@ class ChecksTest(unittest.TestCase):
                      "while y:\n  x = y.pop()\n  y.append(x)", "for x in y[1]:\n  z[y[0]] = 1", "y = [y[0] for x in y]"]:
             told = "def f():\n" + "".join(f"  {line}\n" for line in text.split("\n"))
             self.assertEqual(language.walk_complaints(ast.parse(told)), [], text)
+
+    def assert_complains(self, check, wrong, right, *more):
+        for text in wrong:
+            self.assertNotEqual(check(ast.parse(text), *more), [], text)
+        for text in right:
+            self.assertEqual(check(ast.parse(text), *more), [], text)
+
+    def test_shadows(self):
+        imports = "from hookcarts.trains import trains\n"
+        self.assert_complains(
+            language.shadow_complaints,
+            [imports + text for text in ["def f(trains):\n  pass", "def f():\n  trains = 1", "x = lambda trains: 1",
+                                         "def f():\n  for trains in x:\n    pass", "def f():\n  return [1 for trains in x]",
+                                         "class C:\n  def f(self):\n    C = 1"]],
+            [imports + text for text in ["def f(rows):\n  return trains(rows)", "class C:\n  def trains(self):\n    pass"]])
+
+    def test_prefixes(self):
+        self.assert_complains(language.prefix_complaints, ["_lay_x = 1", "def f():\n  _record = 1", "_cold2 = 1",
+                                                           "def _walls():\n  pass"],
+                              ["_laid = 1", "lay_x = 1", "_recorded = 1", "def _cut():\n  pass"])
+
+    def test_lambdas(self):
+        self.assert_complains(language.lambda_complaints, ["f(lambda x: 1, lambda x: 2)"],
+                              ["f(lambda x: 1, lambda y: 2)", "f(lambda x: 1,\n  lambda x: 2)"])
+
+    def test_stars(self):
+        self.assert_complains(language.star_complaints, ["f(*xs[1:])", "f(*g(x))", "f(**g(x))", "f(*[x + 1])"],
+                              ["f(*xs)", "f(*box.xs, 1)", "f(*[x, 1])", "f(**d)", "x = [*g(x), *xs[1:]]"])
+
+    def test_generators(self):
+        self.assert_complains(
+            language.generator_complaints,
+            ["x = rows_of(y)", "f(rows_of(y))", "x = rows_of", "def f():\n  x = yield 1", "x = [rows_of(y)]"],
+            ["for x in rows_of(y):\n  pass", "x = list(rows_of(y))", "x = [z for z in rows_of(y)]",
+             "def f():\n  yield 1"], {"rows_of"})
